@@ -1,0 +1,1 @@
+"""Holebook: the holes of small shapes, told with papers."""
