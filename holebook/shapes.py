@@ -33,8 +33,16 @@ def first_misfit(pieces):
 
 
 def places(shape, k):
-    if not is_whole_below(k, LEVELS):
-        raise NoLevel("a level of pieces is 0, 1, 2 or 3")
+    check_level(k, LEVELS)
+    return places_of_level(shape, k)
+
+
+def check_level(k, bound):
+    if not is_whole_below(k, bound):
+        raise NoLevel(f"a level here is a whole number from 0 on and below {bound}")
+
+
+def places_of_level(shape, k):
     return [place for place, piece in enumerate(shape) if level_of(piece) == k]
 
 

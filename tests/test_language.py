@@ -31,6 +31,10 @@ UNUSED = """register mro elements open input version_info with_traceback add_not
 METHODS = """append clear copy count endswith extend find get index insert isalnum isalpha isdigit islower isspace
     isupper items join keys ljust lower lstrip partition pop remove replace reverse rfind rjust rpartition rsplit
     rstrip setdefault split splitlines startswith strip update upper values zfill bit_length""".split()
+# L23
+WALKED = "zip enumerate reversed range".split()
+WALKED_METHODS = "items keys values".split()
+WALKERS = "list tuple dict sorted sum any all enumerate zip min max".split()
 
 
 def nodes(kinds):
@@ -163,6 +167,86 @@ class TestNames(unittest.TestCase):
         for path, node in nodes(ast.Call):
             if isinstance(node.func, ast.Attribute):
                 self.assertTrue(node.func.attr in METHODS or node.func.attr in own, (path, node.lineno))
+
+    def test_no_name_is_a_method_here_and_a_value_there(self):
+        rows = [row for path, node in nodes(ast.ClassDef) for row in node.body]
+        methods = [row.name for row in rows if isinstance(row, ast.FunctionDef)]
+        for path, node in nodes(ast.Attribute):
+            if isinstance(node.ctx, ast.Store):
+                self.assertNotIn(node.attr, methods, (path, node.lineno))
+
+    def test_locals_are_not_called_like_classes_or_imports(self):
+        for path, tree in TREES.items():
+            taken = [row.name for row in tree.body if isinstance(row, ast.ClassDef)]
+            for row in tree.body:
+                if isinstance(row, ast.ImportFrom):
+                    taken.extend(alias.name for alias in row.names)
+            for node in ast.walk(tree):
+                if isinstance(node, ast.arg):
+                    self.assertNotIn(node.arg, taken, (path, node.lineno))
+                if isinstance(node, ast.Name) and isinstance(node.ctx, ast.Store):
+                    self.assertNotIn(node.id, taken, (path, node.lineno))
+
+
+class TestFunctions(unittest.TestCase):
+    def test_plain_parameters(self):
+        for path, node in nodes((ast.FunctionDef, ast.Lambda)):
+            rest = node.args
+            self.assertFalse(rest.vararg or rest.kwarg or rest.kwonlyargs or rest.posonlyargs, (path, node.lineno))
+        for path, node in nodes(ast.arg):
+            self.assertIsNone(node.annotation, (path, node.lineno))
+        for path, node in nodes(ast.FunctionDef):
+            self.assertIsNone(node.returns, (path, node.lineno))
+            # A text by itself is no call.
+            self.assertIsNone(ast.get_docstring(node), (path, node.lineno))
+
+    def test_calls_by_themselves(self):
+        for path, tree in TREES.items():
+            for node in ast.walk(tree):
+                if isinstance(node, ast.Expr) and node not in tree.body:
+                    self.assertIsInstance(node.value, ast.Call, (path, node.lineno))
+
+    def test_init_gives_back_nothing(self):
+        for path, node in nodes(ast.FunctionDef):
+            if node.name == "__init__":
+                self.assertFalse([row for row in ast.walk(node) if isinstance(row, ast.Return)], path)
+
+
+class TestWalks(unittest.TestCase):
+    def test_walked_on_the_spot(self):
+        for path, tree in TREES.items():
+            spots = set()
+            for node in ast.walk(tree):
+                if isinstance(node, (ast.For, ast.comprehension)):
+                    spots.add(node.iter)
+                if isinstance(node, ast.Call) and getattr(node.func, "id", None) in WALKERS and node.args:
+                    spots.add(node.args[0])
+            for node in ast.walk(tree):
+                if isinstance(node, ast.Call) and is_walk(node):
+                    self.assertIn(node, spots, (path, node.lineno))
+
+
+class TestTexts(unittest.TestCase):
+    def test_signs_within_texts(self):
+        for path, node in nodes(ast.Constant):
+            if isinstance(node.value, str):
+                self.assertNotIn("%", node.value, (path, node.lineno))
+
+    def test_plain_names_within_braces(self):
+        for path, node in nodes(ast.FormattedValue):
+            self.assertIsInstance(node.value, ast.Name, (path, node.lineno))
+            self.assertIsNone(node.format_spec, (path, node.lineno))
+
+    def test_powers_are_written_out(self):
+        for path, node in nodes(ast.BinOp):
+            if isinstance(node.op, ast.Pow):
+                self.assertIn(getattr(node.right, "value", None), range(65), (path, node.lineno))
+
+
+def is_walk(call):
+    if isinstance(call.func, ast.Name):
+        return call.func.id in WALKED
+    return isinstance(call.func, ast.Attribute) and call.func.attr in WALKED_METHODS
 
 
 if __name__ == "__main__":
