@@ -2,7 +2,7 @@
 
 import random
 
-from tests.samples import SHAPES
+from tests.samples import EXAMPLE, SHAPES, TETRA
 
 GREAT = 10 ** 59 + 7
 # How often points, sides, triangles and tetrahedra are tried.
@@ -73,3 +73,136 @@ def matrix_product(one, other, width):
 
 def one_table(size):
     return [[int(i == j) for j in range(size)] for i in range(size)]
+
+
+def diagonal_table(numbers, height, width):
+    return [[numbers[i] if i == j and i < len(numbers) else 0 for j in range(width)] for i in range(height)]
+
+
+def stirred(chance, rows, width, steps):
+    """The same table behind turns of rows and of columns; so its diagonal has the same numbers."""
+    told = [list(row) for row in rows]
+    for step in range(steps):
+        if len(told) > 1:
+            i, j = chance.sample(range(len(told)), 2)
+            by = chance.randint(-3, 3)
+            told[i] = [one + by * other for one, other in zip(told[i], told[j])]
+        if width > 1:
+            i, j = chance.sample(range(width), 2)
+            by = chance.randint(-3, 3)
+            for row in told:
+                row[i] += by * row[j]
+    return told
+
+
+def diagonal_numbers(rows):
+    """The numbers of the diagonal by plain clearing of lines, without any papers; for small tables."""
+    left = [list(row) for row in rows]
+    told = []
+    while any(number for row in left for number in row):
+        least = min(abs(number) for row in left for number in row if number)
+        i, j = next((i, j) for i, row in enumerate(left) for j, number in enumerate(row) if abs(number) == least)
+        pivot = left[i]
+        for other in left:
+            if other is not pivot:
+                by = other[j] // pivot[j]
+                other[:] = [one - by * two for one, two in zip(other, pivot)]
+        for column in range(len(pivot)):
+            if column != j:
+                by = pivot[column] // pivot[j]
+                for row in left:
+                    row[column] -= by * row[j]
+        if any(row[j] for row in left if row is not pivot) or sum(map(bool, pivot)) > 1:
+            continue
+        rough = [row for row in left if any(number % least for number in row)]
+        if rough:
+            pivot[:] = [one + two for one, two in zip(pivot, rough[0])]
+            continue
+        told.append(least)
+        left = [row[:j] + row[j + 1:] for row in left if row is not pivot]
+    return told
+
+
+def with_multiple(shape, by, add):
+    """Adds pieces until there is one that stands for `by` times the hole at hand, and tells its place."""
+    first = place = add(shape, None, None)
+    for figure in bin(by)[3:]:
+        place = add(shape, place, place)
+        if figure == "1":
+            place = add(shape, place, first)
+    return place
+
+
+def wound_disc(order):
+    """A disc whose rim goes so many times round one loop: a twist of level 1."""
+    def add(shape, one, other):
+        shape.append((0, 0))
+        if one is not None:
+            shape.append((one, len(shape) - 1, other))
+            return len(shape) - 2
+        return len(shape) - 1
+    shape = [()]
+    last = with_multiple(shape, order, add)
+    return shape + [(last, last, last)]
+
+
+def wound_ball(order):
+    """The same one level higher: all triangles lie on one loop, and their differences are wound about."""
+    def add(shape, one, other):
+        shape.append((1, 1, 1))
+        if one is not None:
+            shape.append((one, 2, other, len(shape) - 1))
+            return len(shape) - 2
+        return len(shape) - 1
+    shape = [(), (0, 0), (1, 1, 1)]
+    last = with_multiple(shape, order, add)
+    return shape + [(last, 2, 2, 2)]
+
+
+def side_by_side(*shapes):
+    told = []
+    for shape in shapes:
+        many = len(told)
+        told += [tuple(face + many for face in piece) for piece in shape]
+    return told
+
+
+def reordered(chance, shape):
+    """The same pieces in another order, each behind its faces."""
+    left, new = list(range(len(shape))), {}
+    while left:
+        ready = [place for place in left if all(face in new for face in shape[place])]
+        new[chance.choice(ready)] = len(new)
+        left = [place for place in left if place not in new]
+    return [tuple(new[face] for face in shape[old]) for old in sorted(new, key=new.get)]
+
+
+# Each shape with the counts and the twists of its four levels.
+KNOWN = (
+    ([], (0, 0, 0, 0), ([], [], [], [])),
+    ([()], (1, 0, 0, 0), ([], [], [], [])),
+    ([()] * 40, (40, 0, 0, 0), ([], [], [], [])),
+    ([(), (0, 0)], (1, 1, 0, 0), ([], [], [], [])),
+    ([(), (), (0, 1)], (1, 0, 0, 0), ([], [], [], [])),
+    ([(), (), (0, 1), (0, 1), (1, 0)], (1, 2, 0, 0), ([], [], [], [])),
+    ([()] + [(0, 0)] * 39, (1, 39, 0, 0), ([], [], [], [])),
+    (EXAMPLE, (1, 2, 1, 0), ([], [], [], [])),
+    # The Klein bottle and the projective plane.
+    ([(), (0, 0), (0, 0), (0, 0), (1, 3, 2), (3, 2, 1)], (1, 1, 0, 0), ([], [2], [], [])),
+    ([(), (0, 0), (0, 0), (1, 2, 1), (2, 2, 2)], (1, 0, 0, 0), ([], [2], [], [])),
+    (TETRA, (1, 0, 0, 0), ([], [], [], [])),
+    (TETRA[:14], (1, 0, 1, 0), ([], [], [], [])),
+    (TETRA[:10], (1, 3, 0, 0), ([], [], [], [])),
+    (TETRA + TETRA[14:], (1, 0, 0, 1), ([], [], [], [])),
+    (TETRA[:14] + TETRA[10:14], (1, 0, 5, 0), ([], [], [], [])),
+    ([(), (0, 0), (1, 1, 1), (2, 2, 2, 2)], (1, 0, 0, 1), ([], [], [], [])),
+    (wound_disc(2), (1, 0, 0, 0), ([], [2], [], [])),
+    (wound_disc(3), (1, 0, 0, 0), ([], [3], [], [])),
+    (wound_disc(2 ** 17 + 1), (1, 0, 0, 0), ([], [2 ** 17 + 1], [], [])),
+    (wound_ball(2), (1, 0, 0, 0), ([], [], [2], [])),
+    (wound_ball(360), (1, 0, 0, 0), ([], [], [360], [])),
+    (side_by_side(wound_disc(4), wound_disc(6)), (2, 0, 0, 0), ([], [2, 12], [], [])),
+    (side_by_side(wound_disc(4), wound_disc(2), wound_disc(8)), (3, 0, 0, 0), ([], [2, 4, 8], [], [])),
+    (side_by_side(wound_disc(6), wound_ball(4), wound_ball(6)), (3, 0, 0, 0), ([], [6], [2, 12], [])),
+    (side_by_side(EXAMPLE, wound_disc(2), wound_disc(3), TETRA[:14]), (4, 2, 2, 0), ([], [6], [], [])),
+)

@@ -296,6 +296,14 @@ class TestNothingChanges(unittest.TestCase):
         self.assertEqual(turner.now(), START)
         self.assertEqual(len(turner.papers()[0]), 2)
 
+    def test_what_was_handed_in_is_changed_ahead_of_any_turn(self):
+        rows = copy.deepcopy(START)
+        turner = Turner(rows, 3)
+        rows[0][0] = 99
+        rows[1].clear()
+        rows.pop()
+        self.assertEqual(turner.now(), START)
+
     def test_the_same_row_handed_in_twice(self):
         row = [1, 2]
         turner = Turner([row, row], 2)
@@ -306,7 +314,7 @@ class TestNothingChanges(unittest.TestCase):
         turner = Turner(START, 3)
         turner.turn_rows(("add", 0, 1, 2))
         turner.turn_columns(("add", 0, 1, 2))
-        wanted = (turner.now(), turner.papers())
+        wanted = copy.deepcopy((turner.now(), turner.papers()))
         for told in (turner.now(),) + turner.papers():
             for row in told:
                 row[0] = 77
