@@ -7,7 +7,7 @@ from holebook.tables import flipped
 
 
 def border(shape, chain):
-    if not is_chain_of_some_level(shape, chain):
+    if not is_chain_of_some_level(shape, chain, LEVELS):
         raise NoChain("a chain is a dict of places of one level and of whole numbers but 0")
     told = {}
     for place, number in chain.items():

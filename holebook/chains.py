@@ -1,7 +1,6 @@
 """Chains: dicts of places and of whole numbers but 0."""
 
 from holebook.pieces import is_place_of_level
-from holebook.shapes import LEVELS
 from holebook.wholes import is_whole
 
 
@@ -15,8 +14,8 @@ def is_part(shape, k, place, number):
     return is_place_of_level(shape, place, k) and is_whole(number) and number != 0
 
 
-def is_chain_of_some_level(shape, thing):
-    return any([is_chain(shape, k, thing) for k in range(LEVELS)])
+def is_chain_of_some_level(shape, thing, bound):
+    return any([is_chain(shape, k, thing) for k in range(bound)])
 
 
 def plus(one, other):

@@ -29,3 +29,12 @@ def faces_agree(shape, faces):
             if shape[faces[j]][i] != shape[faces[i]][j - 1]:
                 return False
     return True
+
+
+def called_by(spots, piece):
+    # The same piece, its faces called by the places that spots tells for their old ones.
+    return tuple([spots[face] for face in piece])
+
+
+def moved(piece, many):
+    return tuple([many + face for face in piece])

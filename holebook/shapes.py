@@ -1,7 +1,7 @@
 """Shapes: lists of pieces in which each piece fits behind those ahead of it."""
 
 from holebook.errors import NoLevel, NoPiece, NoShape
-from holebook.pieces import fits, level_of
+from holebook.pieces import called_by, fits, level_of
 from holebook.wholes import is_whole_below
 
 MOST_PIECES = 40
@@ -19,6 +19,11 @@ def shape_of(thing):
     if misfit is not None:
         raise NoPiece(misfit)
     return list(thing)
+
+
+def check_size(pieces):
+    if len(pieces) > MOST_PIECES:
+        raise NoShape(f"a shape has at most {MOST_PIECES} pieces")
 
 
 def is_list_of_few(thing):
@@ -44,6 +49,11 @@ def check_level(k, bound):
 
 def places_of_level(shape, k):
     return [place for place, piece in enumerate(shape) if level_of(piece) == k]
+
+
+def left_with(shape, kept):
+    spots = dict([(old, place) for place, old in enumerate(kept)])
+    return [called_by(spots, shape[old]) for old in kept]
 
 
 def corners(shape, place):

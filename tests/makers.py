@@ -177,6 +177,47 @@ def reordered(chance, shape):
     return [tuple(new[face] for face in shape[old]) for old in sorted(new, key=new.get)]
 
 
+def glued_by_hand(shape, pairs):
+    """The lots that must become one, as sets, by going over all until nothing is left to do."""
+    lots = [{place} for place in range(len(shape))]
+    left = list(pairs)
+    while left:
+        one, other = left.pop()
+        left += zip(shape[one], shape[other])
+        mine, theirs = (next(lot for lot in lots if place in lot) for place in (one, other))
+        if mine is not theirs:
+            lots = [lot for lot in lots if lot is not mine and lot is not theirs] + [mine | theirs]
+    lots.sort(key=min)
+    spots = [next(i for i, lot in enumerate(lots) if place in lot) for place in range(len(shape))]
+    return [tuple(spots[face] for face in shape[min(lot)]) for lot in lots], spots
+
+
+def pairs_to_glue(chance, shape, many):
+    alike = [(one, other) for one in range(len(shape)) for other in range(len(shape))
+             if level(shape[one]) == level(shape[other])]
+    return [chance.choice(alike) for pair in range(many)] if alike else []
+
+
+def part_by_hand(shape, places):
+    kept = sorted(set(places))
+    for step in range(3):
+        kept = sorted(set(kept) | {face for place in kept for face in shape[place]})
+    return [tuple(kept.index(face) for face in shape[place]) for place in kept], kept
+
+
+def some_maps(seed, each=3, most=40):
+    """Triples of a map, the shape it leads from and the one it leads to."""
+    chance = random.Random(seed)
+    told = []
+    for shape in all_shapes(seed, each, most):
+        told.append((list(range(len(shape))), shape, shape))
+        other, spots = glued_by_hand(shape, pairs_to_glue(chance, shape, chance.randint(1, 6)))
+        told.append((spots, shape, other))
+        less, kept = part_by_hand(shape, [place for place in range(len(shape)) if chance.random() < 0.3])
+        told.append((kept, less, shape))
+    return told
+
+
 # Each shape with the counts and the twists of its four levels.
 KNOWN = (
     ([], (0, 0, 0, 0), ([], [], [], [])),
