@@ -1,7 +1,7 @@
 """Borders of chains, and the tables that tell them."""
 
 from holebook.chains import add_at, is_chain, is_chain_of_some_level
-from holebook.errors import NoChain
+from holebook.errors import NoChain, NoRound
 from holebook.shapes import LEVELS, check_level, places_of_level
 from holebook.tables import flipped
 
@@ -18,6 +18,12 @@ def border(shape, chain):
 def add_faces(chain, faces, number):
     for i, face in enumerate(faces):
         add_at(chain, face, number if i % 2 == 0 else -number)
+
+
+def check_round(shape, chain):
+    edge = border(shape, chain)
+    if len(edge) > 0:
+        raise NoRound(edge)
 
 
 def is_round(shape, chain):

@@ -1,9 +1,9 @@
 """Books: the holes of a shape, with papers that anybody can walk."""
 
 from holebook.bases import bases_of
-from holebook.borders import border
+from holebook.borders import check_round
 from holebook.chains import is_chain, plus, times, weigh
-from holebook.errors import NoChain, NoRound, NoShape
+from holebook.errors import NoChain, NoShape
 from holebook.shapes import LEVELS, check_level, is_shape
 
 
@@ -39,9 +39,7 @@ class Book:
         check_level(k, LEVELS)
         if not is_chain(self.pieces, k, chain):
             raise NoChain(f"no chain of level {k}")
-        edge = border(self.pieces, chain)
-        if len(edge) > 0:
-            raise NoRound(edge)
+        check_round(self.pieces, chain)
         numbers = []
         rest = lift_of(self.lifts, chain)
         for order, loop, gauge, filling in self.levels[k]:

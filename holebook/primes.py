@@ -13,3 +13,7 @@ def is_prime(thing):
 
 def turned_over(number, prime):
     return shared_divisor(number, prime)[1] % prime
+
+
+def counted(chain, prime):
+    return dict([(place, number % prime) for place, number in chain.items() if number % prime != 0])

@@ -52,8 +52,12 @@ def places_of_level(shape, k):
 
 
 def left_with(shape, kept):
-    spots = dict([(old, place) for place, old in enumerate(kept)])
+    spots = spots_of(kept)
     return [called_by(spots, shape[old]) for old in kept]
+
+
+def spots_of(things):
+    return dict([(thing, place) for place, thing in enumerate(things)])
 
 
 def corners(shape, place):

@@ -51,5 +51,5 @@ def pieces_of(rows):
 
 def spot_of(spots, name):
     if name not in spots:
-        raise NoName(f"no piece ahead is called {name}")
+        raise NoName(f"no piece there is called {name}")
     return spots[name]

@@ -226,6 +226,20 @@ class TestWalks(unittest.TestCase):
                     self.assertIn(node, spots, (path, node.lineno))
 
 
+    def test_sets_are_not_kept(self):
+        spots = set()
+        for path, node in nodes((ast.Call, ast.Compare)):
+            if isinstance(node, ast.Compare):
+                spots.update([node.left] + node.comparators)
+            elif getattr(node.func, "id", None) in ("sorted", "len"):
+                spots.update(node.args)
+        for path, node in nodes(ast.Set):
+            self.assertIn(node, spots, (path, node.lineno))
+        for path, node in nodes(ast.Call):
+            if getattr(node.func, "id", None) in ("set", "frozenset"):
+                self.assertIn(node, spots, (path, node.lineno))
+
+
 class TestTexts(unittest.TestCase):
     def test_signs_within_texts(self):
         for path, node in nodes(ast.Constant):
