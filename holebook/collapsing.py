@@ -59,7 +59,7 @@ def pushed(shape, chain):
     left = chain
     filling = {}
     for face, place in papers[2]:
-        # No other piece that is left has this face, so a round has the face alone, never the piece.
+        # What is left never has the piece itself: no other piece has that face, so it would stay in the border.
         edge = border(shape, {place: 1})
         number = left.get(face, 0) * edge[face]
         filling = plus(filling, times(number, {place: 1}))

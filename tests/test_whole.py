@@ -60,13 +60,13 @@ class TestTheWhole(unittest.TestCase):
     def test_the_holes_alive_at_each_stage(self):
         shapes = [EXAMPLE, TETRA, MIXED, TIGHT, wound_disc(4), wound_ball(6)] + list(TWISTED) + grown_shapes(33, 1)
         for shape in shapes:
-            growths = [Growth(prime) for prime in (2, 3, 5, 7, 97)]
+            growths = [Growth(prime) for prime in PRIMES]
             for piece in shape:
                 for growth in growths:
                     growth.grow(piece)
             for stage in range(len(shape) + 1):
                 holes = orders_told(shape[:stage])
-                for growth, prime in zip(growths, (2, 3, 5, 7, 97)):
+                for growth, prime in zip(growths, PRIMES):
                     self.assertEqual([growth.alive(k, stage) for k in range(4)], alive_by(holes, prime))
 
     def test_each_prime(self):
